@@ -1,0 +1,1 @@
+"""Surestretch: what counted trials say of a true share."""
