@@ -66,6 +66,7 @@ def faults_of_top(tree):
 def faults_of_nodes(tree):
     found = []
     bound = names_bound(tree)
+    found += [f"L15: {name} is an import or a class of this file" for name in names_shadowed(tree)]
     methods = {node.name for node in ast.walk(tree) if isinstance(node, ast.FunctionDef)}
     for node in ast.walk(tree):
         rule = rule_broken(node, bound, methods)
@@ -88,6 +89,15 @@ def names_bound(tree):
         elif isinstance(node, ast.ExceptHandler) and node.name:
             bound.add(node.name)
     return bound
+
+
+def names_shadowed(tree):
+    above = {alias.asname or alias.name for node in tree.body if isinstance(node, ast.ImportFrom)
+             for alias in node.names}
+    above |= {node.name for node in tree.body if isinstance(node, ast.ClassDef)}
+    within = {node.arg for node in ast.walk(tree) if isinstance(node, ast.arg)}
+    within |= {node.id for node in ast.walk(tree) if isinstance(node, ast.Name) and isinstance(node.ctx, ast.Store)}
+    return sorted(above & within)
 
 
 def rule_broken(node, bound, methods):
