@@ -16,6 +16,8 @@ DUNDERS = set("__init__ __eq__ __repr__ __str__ __len__ __all__ __version__".spl
 
 NEVER = set("register mro elements open input version_info with_traceback add_note format format_map".split())
 
+WALKERS = set("list tuple dict sorted sum any all enumerate zip".split())
+
 WORDS = re.compile(r"\b(type|typing|typing_extensions|enum|Enum|IntEnum|StrEnum|Flag|IntFlag|Generic|Protocol|ABC|"
                    r"ABCMeta|namedtuple|NamedTuple|TypedDict|TYPE_CHECKING|abstractmethod)\b|"
                    r"dataclass|overload|contextmanager")
@@ -67,6 +69,7 @@ def faults_of_nodes(tree):
     found = []
     bound = names_bound(tree)
     found += [f"L15: {name} is an import or a class of this file" for name in names_shadowed(tree)]
+    found += [f"L23: row {node.lineno}" for node in walks_kept(tree)]
     methods = {node.name for node in ast.walk(tree) if isinstance(node, ast.FunctionDef)}
     for node in ast.walk(tree):
         rule = rule_broken(node, bound, methods)
@@ -98,6 +101,31 @@ def names_shadowed(tree):
     within = {node.arg for node in ast.walk(tree) if isinstance(node, ast.arg)}
     within |= {node.id for node in ast.walk(tree) if isinstance(node, ast.Name) and isinstance(node.ctx, ast.Store)}
     return sorted(above & within)
+
+
+def walks_kept(tree):
+    """The calls of range, items and their like that stand elsewhere than where they are walked on the spot."""
+    at_once = set()
+    for node in ast.walk(tree):
+        if isinstance(node, (ast.For, ast.comprehension)):
+            at_once.add(node.iter)
+        elif isinstance(node, ast.Call) and node.args and is_walker(node):
+            at_once.add(node.args[0])
+    return [node for node in ast.walk(tree) if isinstance(node, ast.Call) and is_walk(node) and node not in at_once]
+
+
+def is_walk(call):
+    if isinstance(call.func, ast.Attribute):
+        return call.func.attr in ("items", "keys", "values")
+    return isinstance(call.func, ast.Name) and call.func.id in ("zip", "enumerate", "reversed", "range")
+
+
+def is_walker(call):
+    if isinstance(call.func, ast.Attribute):
+        return call.func.attr == "join" and isinstance(call.func.value, ast.Constant)
+    if isinstance(call.func, ast.Name) and call.func.id in ("min", "max"):
+        return len(call.args) == 1
+    return isinstance(call.func, ast.Name) and call.func.id in WALKERS
 
 
 def rule_broken(node, bound, methods):

@@ -26,6 +26,9 @@ BREACHES = (
     ("L17", "def f():\n    # a type\n    pass\n"), ("L17", "def f(x):\n    return x.__class__\n"),
     ("L19", "def f():\n    try:\n        pass\n    except Exception:\n        pass\n"),
     ("L20", "def f(x, y):\n    return x is y\n"), ("L25", "def f(xs):\n    xs.sort()\n"),
+    ("L23", "def f(n):\n    xs = range(n)\n    return xs\n"), ("L23", "def f(d):\n    return len(d.items())\n"),
+    ("L23", "def f(n):\n    return list(reversed(range(n)))\n"),
+    ("L23", "def f(xs, n):\n    return list(zip(xs, range(n)))\n"),
     ("L27", "def f(x, n):\n    return x ** n\n"), ("L27", "x = 'a % b'\n"),
 )
 
